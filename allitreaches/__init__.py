@@ -1,0 +1,1 @@
+"""Allitreaches: what tools can take away, and what they can't."""
