@@ -1,5 +1,6 @@
 """Values that the tests hand in, and how they look at what is refused."""
 
+from allitreaches.boxes import volume
 from allitreaches.errors import BadBox, ReachError
 
 
@@ -38,9 +39,7 @@ def assert_refused(test, error, value, look, *args, **named):
 
 
 def greater(many):
-    """An integer that is not negative, with more figures than many: a volume of a volume of .."""
-    from allitreaches.boxes import volume
-
+    """An integer above 0 with more figures than many, as told: a volume of a volume of .."""
     number = 987654321
     while number < 10 ** many:
         number = volume((-number, number, 1 - number, number, 0, number))
