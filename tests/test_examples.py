@@ -16,7 +16,8 @@ class Examples(unittest.TestCase):
 
     def test_each_section(self):
         names = sorted(name for name in os.listdir(FOLDER) if name.endswith(".txt"))
-        self.assertIn("section_04.txt", names)
+        self.assertEqual(names, [f"section_{number:02d}.txt" for number in range(4, 4 + len(names))])
+        self.assertGreaterEqual(len(names), 4)
         for name in names:
             self.check(os.path.join(FOLDER, name))
 

@@ -13,7 +13,27 @@ INTERFACE = {
         NoBlock BadJournal BadTask BadBoxes TooFar NoDrawing NoFence BadPath BadMoves Stopped Askew BadCorner""",
     "points": "point_text read_point",
     "boxes": "box_text clash grown hull moved read_box volume where",
+    "cells": "cell_of sample touches",
+    "lots": "Lot lot_of_boxes meeting swept within_boxes",
+    "places": "can_stand free meets outside reach room Scene",
+    "ways": "fence shows_fence shows_way way",
 }
+
+METHODS = {
+    ("lots", "Lot"): "has is_in joined both less pieces closure is_closed is_open __len__ __eq__ __init__",
+    ("places", "Scene"): "__init__ __eq__",
+}
+
+DUNDERS = "__init__ __eq__ __len__".split()
+
+BUILTIN_METHODS = """append clear copy count endswith extend find get index insert isalnum isalpha isdigit islower isspace
+    isupper items join keys ljust lower lstrip partition pop remove replace reverse rfind rjust rpartition rsplit rstrip
+    setdefault split splitlines startswith strip update upper values zfill bit_length""".split()
+
+ITERATED_AT_ONCE = "range zip enumerate reversed".split()
+TAKERS = "list tuple dict sorted sum any all enumerate zip min max".split()
+BARRED_WORDS = """type typing typing_extensions enum Enum Flag Generic Protocol ABC namedtuple NamedTuple TypedDict open input
+    law mro elements register""".split()
 
 LIBRARY = {
     "heapq": "heappush heappop heapify heapreplace heappushpop",
@@ -94,6 +114,77 @@ class Form(unittest.TestCase):
                     self.assertNotIsInstance(node.value, (float, complex), name)
                 if isinstance(node, (ast.FunctionDef, ast.ClassDef, ast.arg)):
                     self.assertNotIn(getattr(node, "name", getattr(node, "arg", None)), BUILTINS, name)
+
+    def test_methods_stand_in_the_class_itself(self):
+        known = trees()
+        for (file, name), methods in METHODS.items():
+            found = [node for node in known[file].body if isinstance(node, ast.ClassDef) and node.name == name]
+            self.assertLessEqual(set(methods.split()), set(defined(found[0])), name)
+
+    def test_only_some_double_underscores(self):
+        for name, tree in trees().items():
+            for node in ast.walk(tree):
+                if isinstance(node, ast.FunctionDef) and node.name.startswith("__"):
+                    self.assertIn(node.name, DUNDERS, name)
+
+    def test_methods_that_are_called(self):
+        known = trees()
+        own = {node.name for tree in known.values() for node in ast.walk(tree) if isinstance(node, ast.FunctionDef)}
+        for name, tree in known.items():
+            for node in ast.walk(tree):
+                if isinstance(node, ast.Call) and isinstance(node.func, ast.Attribute):
+                    self.assertIn(node.func.attr, own | set(BUILTIN_METHODS), name)
+                    self.assertTrue(node.func.attr in own or not node.keywords, (name, node.func.attr))
+
+    def test_no_two_files_import_each_other(self):
+        imported = {name: {node.module.partition(".")[2] for node in tree.body if isinstance(node, ast.ImportFrom)}
+                    for name, tree in trees().items()}
+        done = set()
+        while len(done) < len(imported):
+            ready = {name for name, others in imported.items() if name not in done and others - {""} <= done}
+            self.assertTrue(ready, sorted(set(imported) - done))
+            done |= ready
+
+    def test_all_that_is_imported_is_used(self):
+        for name, tree in trees().items():
+            words = {node.id for node in ast.walk(tree) if isinstance(node, ast.Name)}
+            for node in tree.body:
+                if isinstance(node, ast.ImportFrom):
+                    self.assertLessEqual({word.name for word in node.names}, words, name)
+
+    def test_no_local_name_hides_an_import_or_a_class(self):
+        for name, tree in trees().items():
+            taken = {word.name for node in tree.body if isinstance(node, ast.ImportFrom) for word in node.names}
+            taken |= {node.name for node in tree.body if isinstance(node, ast.ClassDef)}
+            locals_here = {node.arg for node in ast.walk(tree) if isinstance(node, ast.arg)}
+            locals_here |= {node.id for node in ast.walk(tree) if isinstance(node, ast.Name) and isinstance(node.ctx, ast.Store)}
+            self.assertEqual(taken & locals_here, set(), name)
+
+    def test_what_is_iterated_at_once(self):
+        for name, tree in trees().items():
+            let = set()
+            for node in ast.walk(tree):
+                if isinstance(node, (ast.For, ast.comprehension)):
+                    let.add(id(node.iter))
+                if isinstance(node, ast.Call) and isinstance(node.func, ast.Name) and node.func.id in TAKERS:
+                    let.update(id(word) for word in node.args)
+            for node in ast.walk(tree):
+                self.assertNotIsInstance(node, (ast.GeneratorExp, ast.Lambda), name)
+                if isinstance(node, ast.Call) and isinstance(node.func, ast.Name) and node.func.id in ITERATED_AT_ONCE:
+                    self.assertIn(id(node), let, (name, node.lineno))
+
+    def test_no_barred_words(self):
+        for name, tree in trees().items():
+            for node in ast.walk(tree):
+                for word in (getattr(node, "id", None), getattr(node, "attr", None), getattr(node, "arg", None),
+                             getattr(node, "name", None)):
+                    self.assertNotIn(word, BARRED_WORDS, name)
+                    self.assertNotRegex(word or "", r"^(_outside|_record|_cold|_wall|_pe_|_dcw_|_enum_|_cm_|_lay_|_law_|_stub_)")
+
+    def test_no_state_at_module_level(self):
+        for name, tree in trees().items():
+            for node in tree.body:
+                self.assertIsInstance(node, (ast.Expr, ast.ImportFrom, ast.FunctionDef, ast.ClassDef), name)
 
     def test_the_interface_is_defined_where_it_is_listed(self):
         known = trees()

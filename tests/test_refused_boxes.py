@@ -4,41 +4,8 @@ import unittest
 
 from allitreaches.boxes import box_text, clash, grown, hull, moved, read_box, volume, where
 from allitreaches.errors import BadBox, BadBoxes, BadCorner, BadPoint
-from tests.values import assert_refused, replaced, strange
-
-CUBE = (0, 1, 0, 1, 0, 1)
-ZERO = ((0, 1), (0, 1), (0, 1))
-
-
-def bent_boxes():
-    """Values that are no BOXES."""
-    bent = strange() + [list(CUBE), CUBE[:5], CUBE + (2,), (CUBE,), [CUBE], ((0, 1), (0, 1), (0, 1)), "0..1 0..1 0..1"]
-    for at in range(6):
-        for number in (None, True, False, "0", (0,), [0], (0, 1), {}, b"0"):
-            bent.append(replaced((-5, 5) * 3, at, number))
-    for at in (0, 2, 4):
-        for low, high in ((0, 0), (1, 0), (1, 1), (0, -1), (-1, -1), (999999999, -999999999)):
-            bent.append(CUBE[:at] + (low, high) + CUBE[at + 2:])
-    return bent + [(0, 0) * 3, (1, 0) * 3, (False, True) * 3, (0, True) * 3, (False, 1) * 3]
-
-
-def bent_corners():
-    """Values that are no tuples of three integers."""
-    bent = [value for value in strange() if value != (0, 1, 2)]
-    bent += [(), (0,), (0, 0), (0, 0, 0, 0), [0, 0, 0], "0 0 0", ZERO, {0: 0, 1: 0, 2: 0}, (0, 0, (0,)), ((0, 0, 0),)]
-    for at in range(3):
-        for number in (None, True, False, "0", "", (0, 1), [0], {}):
-            bent.append(replaced((0, 1, 2), at, number))
-    return bent
-
-
-def bent_points():
-    """Values that are no POINTS."""
-    bent = strange() + [(0, 0, 0), ((0, 1), (0, 1)), ZERO + ((0, 1),), list(ZERO), "0 0 0", tuple(map(list, ZERO))]
-    for at in range(3):
-        for part in ((0, 2), (2, 4), (1, 0), (1, -2), (0, 0), (True, 1), (0, True), [0, 1], 0, None, (1,), (1, 1, 1)):
-            bent.append(replaced(ZERO, at, part))
-    return bent
+from tests.values import assert_refused, strange
+from tests.wrong import CUBE, ZERO, bent_boxes, bent_corners, bent_points
 
 
 class BadBoxIsTold(unittest.TestCase):

@@ -30,7 +30,7 @@ def replaced(row, at, value):
     return row[:at] + (value,) + row[at + 1:]
 
 
-def assert_refused(test, error, value, look, *args, **named):
+def assert_refused(test, error, value, look, /, *args, **named):
     """That look raises just this error, with the very value."""
     with test.assertRaises(ReachError) as caught:
         look(*args, **named)
