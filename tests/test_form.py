@@ -17,6 +17,10 @@ INTERFACE = {
     "lots": "Lot lot_of_boxes meeting swept within_boxes",
     "places": "can_stand free meets outside reach room Scene",
     "ways": "fence shows_fence shows_way way",
+    "moves": "clear first_met shows_first_met",
+    "taking": "behind shows_takes stages taken takes",
+    "rounds": "fewest lacks least rounds shows_fewest stands_behind",
+    "paths": "path shows_path walked",
 }
 
 METHODS = {

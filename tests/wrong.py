@@ -89,6 +89,10 @@ def bent_tools():
     bent += [((), ()), ((), UNIT), (UNIT * 4, ()), (UNIT, (upper,) * 4)]
     bent += [(boxes, ()) for boxes in bent_tuples_of_boxes(-4, 4)]
     bent += [(UNIT, boxes) for boxes in bent_tuples_of_boxes(-4, 4)]
+    for at in range(3):
+        for low, high in ((-5, -4), (4, 5), (-5, -2), (2, 5)):
+            far = CUBE[:2 * at] + (low, high) + CUBE[2 * at + 2:]
+            bent += [(UNIT, (far,)), ((far,), ()), ((CUBE, far), (upper,)), (UNIT, (upper, far))]
     # A spot within both, in whichever BOXES.
     bent += [(UNIT, UNIT), ((CUBE, other), ((0, 1, 0, 1, -1, 2),)), (UNIT, (upper, other, (0, 4, -1, 4, -4, 2))),
              ((upper, CUBE), (other, (-4, 1, 0, 4, 0, 1))), (((0, 2, 0, 2, 0, 2),), ((1, 3, 1, 3, 1, 3),))]
