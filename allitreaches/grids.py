@@ -51,18 +51,26 @@ class Grid:
         figures = "".join(pieces)
         return int(figures[::-1], 2) if figures else 0
 
-    def cells_of(self, bits):
-        """The ascending list of the CELLS with these bits."""
+    def _cell_at(self, number):
+        """The CELL whose bit has this number."""
         low_x, low_y, low_z = self.lows
         step_x, step_y, _ = self.steps
+        x, rest = divmod(number, step_x)
+        y, z = divmod(rest, step_y)
+        return (x + low_x, y + low_y, z + low_z)
+
+    def cell_of_bit(self, bit):
+        """The CELL with this bit."""
+        return self._cell_at(bit.bit_length() - 1)
+
+    def cells_of(self, bits):
+        """The ascending list of the CELLS with these bits."""
         figures = f"{bits:b}"
         figures = figures[::-1]
         cells = []
         at = figures.find("1")
         while at >= 0:
-            x, rest = divmod(at, step_x)
-            y, z = divmod(rest, step_y)
-            cells.append((x + low_x, y + low_y, z + low_z))
+            cells.append(self._cell_at(at))
             at = figures.find("1", at + 1)
         return cells
 
@@ -84,7 +92,7 @@ class Grid:
             self._gaps[axis] = _repeated(row, step * size, self.whole)
         return self._gaps[axis]
 
-    def cubes(self):
+    def all_cubes(self):
         """All CELLS that are cubes."""
         return self.gaps(0) & self.gaps(1) & self.gaps(2)
 

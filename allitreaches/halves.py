@@ -49,7 +49,7 @@ class Milling:
 
     def eighths_of(self, bits):
         """How many eighths of a cube these spots fill."""
-        return many_of(bits & self.grid.cubes())
+        return many_of(bits & self.grid.all_cubes())
 
     def cut_at(self, place):
         """What lies within the cutter at a place."""

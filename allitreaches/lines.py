@@ -8,10 +8,10 @@ def differ_on_one_axis(one, other):
     return len([axis for axis in range(3) if one[axis] != other[axis]]) <= 1
 
 
-def steps_to(start, goal, order):
+def steps_to(start, goal):
     """The POINTS that lead from start to goal, start left out, by one axis behind the other."""
     points = []
-    for axis in order:
+    for axis in range(3):
         start = start[:axis] + (goal[axis],) + start[axis + 1:]
         points.append(start)
     return points

@@ -73,7 +73,8 @@ class Lot:
         found = {first: True}
         waiting = [first]
         while waiting:
-            for cell in touching(waiting.pop()):
+            here = waiting.pop()
+            for cell in touching(here):
                 if cell in self._own and cell not in found:
                     found[cell] = True
                     waiting.append(cell)
@@ -86,7 +87,8 @@ class Lot:
         for cell in self.cells:
             if cell not in seen:
                 piece = self._piece(cell)
-                seen.update({other: True for other in piece})
+                for other in piece:
+                    seen[other] = True
                 pieces.append(Lot(tuple(piece)))
         return tuple(pieces)
 

@@ -4,7 +4,6 @@ from allitreaches.cells import cell_of
 from allitreaches.errors import NoScene
 from allitreaches.kinds import check_part, check_stock, check_tool
 from allitreaches.lots import check_lot, lot_of_boxes
-from allitreaches.points import check_point
 from allitreaches.reasons import reasons_at
 from allitreaches.setups import room_of, setup_of
 
@@ -45,7 +44,6 @@ def can_stand(scene, stands, tool, point):
 def meets(scene, stands, tool, point):
     """What bars this place, ascending."""
     check_setting(scene, stands, tool)
-    check_point(point)
     return tuple(reasons_at(scene, stands, tool, cell_of(point)))
 
 

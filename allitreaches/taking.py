@@ -3,7 +3,7 @@
 from allitreaches.boxes import axes, where
 from allitreaches.cells import cell_of, swept_span
 from allitreaches.kinds import check_tool
-from allitreaches.lots import check_lot, swept
+from allitreaches.lots import swept
 from allitreaches.places import check_setting
 from allitreaches.points import check_point, is_point
 from allitreaches.ratios import difference, greater, lesser, middle
@@ -13,7 +13,6 @@ from allitreaches.setups import setup_of
 def taken(tool, lot):
     """All CELLS of which some spot lies within the cutter at some place in the lot."""
     check_tool(tool)
-    check_lot(lot)
     return swept(lot, tool[0])
 
 

@@ -38,16 +38,13 @@ class Tour:
         self.wanted = 0
         self.steps = [_first_of(setup.outside)]
 
-    def _cell(self, step):
-        return self.grid.cells_of(step)[0]
-
-    def _takes(self, cell):
+    def _takes(self, step):
         """What it takes at this place of all that is wanted."""
-        return self.wanted & self.milling.cut_at(cell)
+        return self.wanted & self.milling.cut_at(self.grid.cell_of_bit(step))
 
     def _go(self, step):
         self.steps.append(step)
-        self.wanted = self.wanted & ~self._takes(self._cell(step))
+        self.wanted = self.wanted & ~self._takes(step)
 
     def _run(self, reach, axis, ahead):
         """How much a move straight on takes, and the places up to the last one that takes some of it."""
@@ -56,7 +53,7 @@ class Tour:
         while step:
             step = self.grid.shifted(step, axis, ahead) & reach
             row.append(step)
-            took = self._takes(self._cell(step)) & ~found if step else 0
+            took = self._takes(step) & ~found if step else 0
             if took:
                 found = found | took
                 useful = len(row)
@@ -79,7 +76,7 @@ class Tour:
             if not row:
                 way_on = self.grid.route(reach, self.steps[-1], cover)
                 cover = cover & ~way_on[-1]
-                row = way_on[1:] if self._takes(self._cell(way_on[-1])) else []
+                row = way_on[1:] if self._takes(way_on[-1]) else []
             for step in row:
                 self._go(step)
 
@@ -89,7 +86,7 @@ class Tour:
 
     def points(self):
         """The POINTS of all places, in sequence."""
-        return [sample(self._cell(step)) for step in self.steps]
+        return [sample(self.grid.cell_of_bit(step)) for step in self.steps]
 
 
 def tour(scene, setup, stands):

@@ -26,12 +26,11 @@ def _within_room(spans, point):
 
 
 def _way_in(spans, point):
-    """The POINTS from a place, which the TOOL can stand at, to the next one of the ROOM."""
-    goal = _within_room(spans, point)
-    beyond = [axis for axis in range(3) if point[axis] != goal[axis]]
-    # As long as it is beyond the ROOM on one axis, nothing is met on the others.
-    order = [axis for axis in range(3) if axis not in beyond[:1]] + beyond[:1]
-    return [point] + steps_to(point, goal, order)
+    """The POINTS from a place, which the TOOL can stand at, to the next one of the ROOM.
+
+    Up to the last of them it is beyond the ROOM on some axis, or on a side of it: nothing is met there.
+    """
+    return [point] + steps_to(point, _within_room(spans, point))
 
 
 def _route(scene, stands, tool, one, other):
@@ -42,7 +41,7 @@ def _route(scene, stands, tool, one, other):
     steps = grid.route(setup.free(setup.bits_of(stands)), ends[0], ends[1])
     if steps is None:
         return None
-    return [grid.cells_of(step)[0] for step in steps]
+    return [grid.cell_of_bit(step) for step in steps]
 
 
 def _way(scene, stands, tool, one, other):
@@ -54,8 +53,8 @@ def _way(scene, stands, tool, one, other):
     if cells is None:
         return None
     samples = [sample(cell) for cell in cells]
-    points = way_in + steps_to(way_in[-1], samples[0], (0, 1, 2)) + samples
-    points = points + steps_to(samples[-1], way_out[0], (0, 1, 2)) + way_out
+    points = way_in + steps_to(way_in[-1], samples[0]) + samples
+    points = points + steps_to(samples[-1], way_out[0]) + way_out
     return tuple(straightened(points))
 
 

@@ -200,7 +200,8 @@ class Refused(unittest.TestCase):
     def test_moves(self):
         check_refusals(self, first_met, self.rows())
         check_refusals(self, clear, self.rows())
-        check_refusals(self, shows_first_met, self.rows() + [("value", None, None, [])])
+        for value in (None, ((1, 2), ("cutter", 0, 0)), 0):
+            check_refusals(self, shows_first_met, self.rows() + [("value", value, None, [])])
 
     def test_not_free_for_one_alone(self):
         barred, free = at(0, 0, 0), at(5, 0, 0)

@@ -259,7 +259,8 @@ class Refused(unittest.TestCase):
 
     def test_in_sequence(self):
         check_refusals(self, path, self.rows())
-        check_refusals(self, shows_path, self.rows(("value", None, None, [])))
+        for value in (None, (ZERO,), (at(0, 0, 5),), []):
+            check_refusals(self, shows_path, self.rows(("value", value, None, [])))
         check_refusals(self, walked, self.rows(("path", (ZERO,), BadPath, bent_paths())))
 
     def test_one_point_alone_and_the_same_one_twice_are_let(self):

@@ -222,7 +222,8 @@ class Refused(unittest.TestCase):
             check_refusals(self, look, self.rows())
         for look in (stands_behind, lacks):
             check_refusals(self, look, self.rows(("row", (0, 1), BadRow, bent_rows(2))))
-        check_refusals(self, shows_fewest, self.rows(("value", None, None, [])))
+        for value in (None, (), (0, 1), (2,), [0]):
+            check_refusals(self, shows_fewest, self.rows(("value", value, None, [])))
 
     def test_numbers_of_tools_that_there_are(self):
         scene = Scene((), UNIT)

@@ -231,7 +231,8 @@ class Refused(unittest.TestCase):
         for look in (stages, behind):
             check_refusals(self, look, self.rows())
         check_refusals(self, takes, self.rows(("point", ZERO, BadPoint, bent_points())))
-        check_refusals(self, shows_takes, self.rows(("point", ZERO, BadPoint, bent_points()), ("value", None, None, [])))
+        for value in (None, ZERO, (), 0):
+            check_refusals(self, shows_takes, self.rows(("point", ZERO, BadPoint, bent_points()), ("value", value, None, [])))
         check_refusals(self, taken, [("tool", BARE, BadTool, bent_tools()), ("lot", Lot(()), NoLot, bent_lots())])
 
     def test_too_far_comes_last(self):

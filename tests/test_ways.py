@@ -296,8 +296,8 @@ class Refused(unittest.TestCase):
         check_refusals(self, fence, self.rows())
 
     def test_shows(self):
-        for look in (shows_way, shows_fence):
-            check_refusals(self, look, self.rows() + [("value", None, None, [])])
+        for look, value in itertools.product((shows_way, shows_fence), (None, (INNER, OUTER), (Lot(()), ()), 0)):
+            check_refusals(self, look, self.rows() + [("value", value, None, [])])
 
     def test_not_free_for_one_then_for_other(self):
         barred, worse = own.point_of((0, 0, 0)), own.point_of((HALF, HALF, THIRD))
