@@ -4,8 +4,14 @@ from allitreaches.boxes import axes
 from allitreaches.cells import swept_span
 
 
-def _lowest(bits):
+def first_of(bits):
+    """The bit of the least of these CELLS."""
     return bits & -bits
+
+
+def last_of(bits):
+    """The bit of the greatest of these CELLS."""
+    return 1 << bits.bit_length() - 1
 
 
 def many_of(bits):
@@ -183,7 +189,7 @@ class Grid:
                 return None
             rows.append(row)
             found = found | row
-        steps = [_lowest(rows[-1] & goals)]
+        steps = [first_of(rows[-1] & goals)]
         for row in rows[-2::-1]:
-            steps.append(_lowest(self.beside(steps[-1]) & row))
+            steps.append(first_of(self.beside(steps[-1]) & row))
         return steps[::-1]

@@ -4,16 +4,8 @@ A place of halves is told by its CELL, or the CELL's bit; its indices are the nu
 """
 
 from allitreaches.cells import sample
-from allitreaches.grids import many_of
+from allitreaches.grids import first_of, last_of, many_of
 from allitreaches.halves import Milling
-
-
-def _first_of(bits):
-    return bits & -bits
-
-
-def _last_of(bits):
-    return 1 << bits.bit_length() - 1
 
 
 def _cover(setup, reach, wanted):
@@ -23,7 +15,7 @@ def _cover(setup, reach, wanted):
     """
     chosen = 0
     while wanted:
-        place = _last_of(reach & setup.taking(_first_of(wanted)))
+        place = last_of(reach & setup.taking(first_of(wanted)))
         chosen = chosen | place
         wanted = wanted & ~setup.taken(place)
     return setup.grid.closure(chosen)
@@ -36,7 +28,7 @@ class Tour:
         self.grid = setup.grid
         self.milling = Milling(scene, setup.tool)
         self.wanted = 0
-        self.steps = [_first_of(setup.outside)]
+        self.steps = [first_of(setup.outside)]
 
     def _takes(self, step):
         """What it takes at this place of all that is wanted."""
