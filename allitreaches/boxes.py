@@ -54,13 +54,24 @@ def _read_span(word):
     return (read_integer(low), read_integer(high))
 
 
+def box_told(text):
+    """The BOX with this text; None if there is none."""
+    box = box_of([_read_span(word) for word in text.split(" ")])
+    return box if is_box(box) else None
+
+
 def read_box(text):
     """The BOX with this text."""
-    words = text.split(" ") if isinstance(text, str) else []
-    box = box_of([_read_span(word) for word in words])
-    if not is_box(box):
+    box = box_told(text) if isinstance(text, str) else None
+    if box is None:
         raise BadBox(text)
     return box
+
+
+def corner_told(text):
+    """The three integers of this text, parted by one blank; None if it has no such form."""
+    corner = tuple([read_integer(word) for word in text.split(" ")])
+    return corner if is_corner(corner) else None
 
 
 def moved(box, corner):

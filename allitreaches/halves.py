@@ -1,7 +1,10 @@
 """Moves at halves: all is told twice as large, so that it is told by integers."""
 
 from allitreaches.boxes import axes, clash, hull, moved
+from allitreaches.errors import Cuts, Meets
 from allitreaches.grids import Grid, many_of
+from allitreaches.heights import lowest_outside
+from allitreaches.ratios import is_less
 
 
 def doubled(point):
@@ -32,16 +35,38 @@ def _front(box, start, end):
     return 0
 
 
-class Milling:
-    """A TOOL over a Scene at halves. Spots are bits of a Grid, places are twice as far."""
+def _gone_over(boxes, start, end):
+    """The BOXES that hold within them all that lies within these ones on the way from start to end."""
+    return [hull((moved(box, start), moved(box, end))) for box in boxes]
 
-    def __init__(self, scene, tool):
+
+class Milling:
+    """A TOOL over a PART in a STOCK at halves. Spots are bits of a Grid, places are twice as far."""
+
+    def __init__(self, part, stock, tool):
         cutter, holder = tool
-        self.part = [_doubled_box(box) for box in scene.part]
+        self.lowest = lowest_outside(part, stock, tool)
+        self.part = [_doubled_box(box) for box in part]
+        self.stock = [_doubled_box(box) for box in stock]
         self.cutter = [_doubled_box(box) for box in cutter]
         self.holder = [_doubled_box(box) for box in holder]
-        stock = axes(_doubled_box(hull(scene.stock)))
-        self.grid = Grid([2 * low for low, _ in stock], [2 * high for _, high in stock])
+        whole = axes(hull(tuple(self.stock)))
+        self.grid = Grid([2 * low for low, _ in whole], [2 * high for _, high in whole])
+
+    def beginning(self):
+        """The POINT at which the TOOL is when it comes into the machine."""
+        return ((0, 1), (0, 1), (self.lowest, 1))
+
+    def is_outside(self, point):
+        """Whether the TOOL is outside at this POINT."""
+        return not is_less(point[2], (self.lowest, 1))
+
+    def first(self):
+        """All that stands at first."""
+        found = 0
+        for box in self.stock:
+            found = found | self.grid.lying_in(box)
+        return found
 
     def bits_of(self, lot):
         """The bits of the cells of halves of a Lot."""
@@ -58,17 +83,23 @@ class Milling:
             found = found | self.grid.within(moved(box, place))
         return found
 
-    def _gone_over(self, box, start, end):
-        """The BOX that holds within it all that lies within this one on the way; None if the PART is met."""
-        whole = hull((moved(box, start), moved(box, end)))
-        return None if any([clash(whole, kept) for kept in self.part]) else whole
+    def _part_met(self, boxes):
+        """The number of the first BOX of the PART that has spots within one of these; None if none has."""
+        for number, kept in enumerate(self.part):
+            if any([clash(box, kept) for box in boxes]):
+                return number
+        return None
 
     def left(self, stands, start, end):
-        """What stands behind a move along one axis, or of no length; None if it is not let."""
-        cut = [self._gone_over(box, start, end) for box in self.cutter]
-        held = [self._gone_over(box, start, end) for box in self.holder]
-        if None in cut + held:
-            return None
+        """What stands behind a move along one axis, or of no length."""
+        cut = _gone_over(self.cutter, start, end)
+        held = _gone_over(self.holder, start, end)
+        number = self._part_met(cut)
+        if number is not None:
+            raise Cuts(number)
+        number = self._part_met(held)
+        if number is not None:
+            raise Meets(number)
         rows = [(_front(box, start, end), self.grid.within(whole)) for box, whole in zip(self.cutter, cut)]
         for box, whole in zip(self.holder, held):
             met = stands & self.grid.within(whole)
@@ -77,7 +108,7 @@ class Milling:
                 if front >= _front(box, start, end):
                     met = met & ~gone
             if met:
-                return None
+                raise Meets(None)
         for _, gone in rows:
             stands = stands & ~gone
         return stands

@@ -14,15 +14,25 @@ def are_boxes(value, least, most, low, high):
     return all([low <= number <= high for box in value for number in box])
 
 
+def is_part(value):
+    """Whether any value is a PART."""
+    return are_boxes(value, 0, 6, 0, 8)
+
+
 def check_part(value):
     """Refuses what is no PART."""
-    if not are_boxes(value, 0, 6, 0, 8):
+    if not is_part(value):
         raise BadPart(value)
+
+
+def is_stock(value):
+    """Whether any value is a STOCK."""
+    return are_boxes(value, 1, 3, 0, 8)
 
 
 def check_stock(value):
     """Refuses what is no STOCK."""
-    if not are_boxes(value, 1, 3, 0, 8):
+    if not is_stock(value):
         raise BadStock(value)
 
 
@@ -42,9 +52,14 @@ def check_tool(value):
         raise BadTool(value)
 
 
+def are_tools(value):
+    """Whether any value is a tuple of TOOLS, as many as can be."""
+    return isinstance(value, tuple) and 1 <= len(value) <= 4 and all([is_tool(tool) for tool in value])
+
+
 def check_tools(value):
     """Refuses what are no TOOLS."""
-    if not isinstance(value, tuple) or not 1 <= len(value) <= 4 or not all([is_tool(tool) for tool in value]):
+    if not are_tools(value):
         raise BadTools(value)
 
 

@@ -1,12 +1,12 @@
 """PATHS: turns on a grid of halves, place by place."""
 
-from allitreaches.errors import BadPath
+from allitreaches.errors import BadPath, Cuts, Meets
 from allitreaches.halves import Milling, doubled
 from allitreaches.lines import differ_on_one_axis, straightened
 from allitreaches.places import check_setting
-from allitreaches.points import is_point
-from allitreaches.ratios import is_less, ratio
-from allitreaches.setups import lowest_outside, setup_of
+from allitreaches.points import is_of_halves, is_point
+from allitreaches.ratios import ratio
+from allitreaches.setups import setup_of
 from allitreaches.tours import tour
 
 
@@ -14,7 +14,7 @@ def is_path(value):
     """Whether any value is a PATH."""
     if not isinstance(value, tuple) or not value or not all([is_point(point) for point in value]):
         return False
-    if not all([bottom <= 2 for point in value for _, bottom in point]):
+    if not all([is_of_halves(point) for point in value]):
         return False
     return all([differ_on_one_axis(one, other) for one, other in zip(value, value[1:])])
 
@@ -31,23 +31,20 @@ def _walked(milling, stands, row):
     before = doubled(row[0])
     for number, point in enumerate(row):
         place = doubled(point)
-        left = milling.left(stands, before, place)
-        if left is None:
+        try:
+            stands = milling.left(stands, before, place)
+        except (Cuts, Meets):
             return (number, stands)
-        before, stands = place, left
+        before = place
     return (len(row), stands)
-
-
-def _is_outside(scene, tool, point):
-    return not is_less(point[2], (lowest_outside(scene, tool), 1))
 
 
 def shows_path(scene, stands, tool, value):
     """Whether path may tell this value."""
     check_setting(scene, stands, tool)
-    if not is_path(value) or not all([_is_outside(scene, tool, point) for point in (value[0], value[-1])]):
+    milling, setup = Milling(scene.part, scene.stock, tool), setup_of(scene, tool)
+    if not is_path(value) or not all([milling.is_outside(point) for point in (value[0], value[-1])]):
         return False
-    milling, setup = Milling(scene, tool), setup_of(scene, tool)
     many, left = _walked(milling, milling.bits_of(stands), value)
     whole = setup.lot_of(setup.behind(setup.bits_of(stands)))
     return many == len(value) and left == milling.bits_of(whole)
@@ -58,7 +55,7 @@ def walked(scene, stands, tool, path):
     check_setting(scene, stands, tool)
     if not is_path(path):
         raise BadPath(path)
-    milling = Milling(scene, tool)
+    milling = Milling(scene.part, scene.stock, tool)
     first = milling.bits_of(stands)
     many, left = _walked(milling, first, path)
     if many < len(path):

@@ -2,6 +2,7 @@
 
 from allitreaches.cells import cell_of
 from allitreaches.errors import NoScene
+from allitreaches.heights import top_of
 from allitreaches.kinds import check_part, check_stock, check_tool
 from allitreaches.lots import check_lot, lot_of_boxes
 from allitreaches.reasons import reasons_at
@@ -17,7 +18,7 @@ class Scene:
         self.part = part
         self.stock = stock
         self.stands = lot_of_boxes(stock)
-        self.top = max([box[5] for box in part + stock])
+        self.top = top_of(part, stock)
 
     def __eq__(self, other):
         return isinstance(other, Scene) and self.part == other.part and self.stock == other.stock

@@ -29,6 +29,11 @@ def check_point(value):
         raise BadPoint(value)
 
 
+def is_of_halves(point):
+    """Whether all FRACTIONS of the POINT have the bottom 1 or 2."""
+    return all([bottom <= 2 for _, bottom in point])
+
+
 def fraction_text(fraction):
     """The text of a FRACTION: a bottom of 1 is left out."""
     top, bottom = fraction
@@ -53,10 +58,15 @@ def point_text(point):
     return " ".join([fraction_text(part) for part in point])
 
 
+def point_told(text):
+    """The POINT with this text; None if there is none."""
+    point = tuple([read_fraction(word) for word in text.split(" ")])
+    return point if is_point(point) else None
+
+
 def read_point(text):
     """The POINT with this text."""
-    words = text.split(" ") if isinstance(text, str) else []
-    point = tuple([read_fraction(word) for word in words])
-    if not is_point(point):
+    point = point_told(text) if isinstance(text, str) else None
+    if point is None:
         raise BadPoint(text)
     return point

@@ -2,6 +2,7 @@
 
 from allitreaches.boxes import axes, box_of, grown, hull
 from allitreaches.grids import Grid
+from allitreaches.heights import lowest_outside
 from allitreaches.lots import Lot, opposite
 
 
@@ -10,12 +11,6 @@ def room_of(scene, tool):
     cutter, holder = tool
     met = grown(hull(scene.part + scene.stock), hull(cutter + holder))
     return box_of([(low - 1, high + 1) for low, high in axes(met)])
-
-
-def lowest_outside(scene, tool):
-    """The least z of places that are outside."""
-    cutter, holder = tool
-    return scene.top - min([box[4] for box in cutter + holder])
 
 
 def grid_of(scene, tools):
@@ -33,7 +28,7 @@ class Setup:
         self.tool = tool
         self.cutter, self.holder = tool
         self.room = grid.lying_in(room_of(scene, tool))
-        self.outside = self.room & ~grid.below(2, 2 * lowest_outside(scene, tool))
+        self.outside = self.room & ~grid.below(2, 2 * lowest_outside(scene.part, scene.stock, tool))
         part = 0
         for box in scene.part:
             part = part | grid.lying_in(box)

@@ -26,7 +26,7 @@ class Tour:
 
     def __init__(self, scene, setup):
         self.grid = setup.grid
-        self.milling = Milling(scene, setup.tool)
+        self.milling = Milling(scene.part, scene.stock, setup.tool)
         self.wanted = 0
         self.steps = [first_of(setup.outside)]
 

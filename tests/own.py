@@ -106,9 +106,10 @@ def lies_within(box, row):
     return all(low < number < high for (low, high), number in zip(axes(box), row))
 
 
+@functools.lru_cache(maxsize=None)
 def cells_in(boxes):
     """The CELLS whose samples lie in a BOX."""
-    return {cell for box in boxes for cell in block(box) if lies_in(box, sample_of(cell))}
+    return frozenset(cell for box in boxes for cell in block(box) if lies_in(box, sample_of(cell)))
 
 
 def cells_within(boxes):

@@ -30,6 +30,34 @@ CHEST = (((0, 3, 0, 1, 0, 3), (0, 3, 2, 3, 0, 3), (0, 1, 0, 3, 0, 3), (2, 3, 0, 
 SCENES = {"block": BLOCK, "column": COLUMN, "table": TABLE, "hole": HOLE, "steps": STEPS, "apart": APART,
           "outer": OUTER, "chest": CHEST}
 
+POCKET = (((0, 4, 0, 1, 0, 3), (0, 4, 2, 3, 0, 3), (0, 1, 1, 2, 0, 3), (3, 4, 1, 2, 0, 3), (2, 3, 1, 2, 0, 1)),
+          ((0, 4, 0, 3, 0, 3),))
+BROAD = (((0, 2, 0, 1, 0, 1),), ())
+STEPPED = (((0, 1, 0, 1, 0, 1),), ((0, 2, 0, 1, 1, 3),))
+SHAFT = (((0, 1, 0, 1, 0, 3), (2, 3, 0, 1, 0, 3)), ((0, 3, 0, 1, 0, 3),))
+# Its holder lies above its cutter and below it: no stock of two layers goes between.
+IDLE = (UNIT, ((-4, 4, -4, 4, 1, 4), (-4, 4, -4, 4, -4, 0)))
+
+# PARTS and STOCKS, each with TOOLS that have turns in it.
+TURNS = [
+    (POCKET, (BROAD, STEPPED)), (POCKET, (STEPPED, BROAD)), (POCKET, (STEPPED, STEPPED)), (POCKET, (IDLE, STEPPED, BROAD)),
+    (POCKET, (BROAD,)), (TABLE, (SIDE, NARROW)), (TABLE, (FLAT, UNDER)), (HOLE, (WIDE, NARROW)),
+    (APART, (WIDE, LOW, BARE)), (STEPS, (UNDER, SIDE, LOW)), (BLOCK, (IDLE,)),
+    (OUTER, (HIGH, SIDE)), (CHEST, (BARE, NARROW)), (SHAFT, (WIDE, STEPPED)), (BLOCK, (BARE, BARE)),
+]
+
+# Such as want three TOOLS, each of which is needed.
+THREE = [
+    ((((2, 3, 2, 3, 1, 2), (1, 3, 2, 3, 0, 2), (0, 3, 0, 1, 0, 1)), ((0, 3, 0, 3, 0, 3),)),
+     ((((-2, 0, -2, -1, 0, 2), (-2, 0, -2, 0, 0, 1)), ((0, 2, -2, -1, -1, 1),)),
+      (((-2, 0, 0, 1, -1, 1),), ((0, 2, 0, 2, -2, -1), (-2, 0, 1, 2, 1, 2))),
+      (((-1, 0, -1, 1, 1, 2), (-1, 1, 0, 2, 0, 2)), ((1, 2, 1, 2, 0, 1), (-1, 1, 0, 1, -1, 0))),
+      (((-2, 0, 1, 2, 1, 2), (-1, 1, 0, 2, 1, 2)), ()))),
+    ((((1, 3, 0, 2, 2, 3), (1, 2, 1, 2, 1, 3)), ((0, 3, 0, 3, 0, 3),)),
+     ((((1, 2, -2, -1, 0, 2),), ((1, 2, -1, 0, 1, 2),)), (((-1, 1, -1, 0, -1, 1),), ((-1, 0, 0, 1, 0, 1), (-1, 0, 1, 2, 0, 2))),
+      (((0, 2, -1, 0, -2, -1),), ((1, 2, 1, 2, 0, 2), (-2, 0, 1, 2, -2, 0))))),
+]
+
 
 def some(seed):
     """A source of chances that are the same each time."""

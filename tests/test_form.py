@@ -21,11 +21,16 @@ INTERFACE = {
     "taking": "behind shows_takes stages taken takes",
     "rounds": "fewest lacks least rounds shows_fewest stands_behind",
     "paths": "path shows_path walked",
+    "programs": "program_text read_program",
+    "machine": "halved Machine",
+    "making": "program_of shows_program_of",
+    "fits": "by_holders fits needed rest undercuts",
 }
 
 METHODS = {
     ("lots", "Lot"): "has is_in joined both less pieces closure is_closed is_open __len__ __eq__ __init__",
     ("places", "Scene"): "__init__ __eq__",
+    ("machine", "Machine"): "__init__ __eq__ do run has lot volume copy",
 }
 
 DUNDERS = "__init__ __eq__ __len__".split()
@@ -188,7 +193,39 @@ class Form(unittest.TestCase):
     def test_no_state_at_module_level(self):
         for name, tree in trees().items():
             for node in tree.body:
-                self.assertIsInstance(node, (ast.Expr, ast.ImportFrom, ast.FunctionDef, ast.ClassDef), name)
+                self.assertIsInstance(node, (ast.Expr, ast.ImportFrom, ast.FunctionDef, ast.ClassDef, ast.Assign), name)
+                if isinstance(node, ast.Assign):
+                    self.check_table(name, tree, node)
+
+    def check_table(self, name, tree, node):
+        """That a name at module level is bound once, to words and what is defined above it, and only read by an item."""
+        self.assertIsInstance(node.value, ast.Dict, name)
+        target, = node.targets
+        for word in node.value.keys:
+            self.assertIsInstance(word.value, str, name)
+        for value in node.value.values:
+            if isinstance(value, ast.Name):
+                self.assertIn(value.id, defined(ast.Module(tree.body[:tree.body.index(node)], [])), name)
+            else:
+                self.assertEqual({type(part.value) for part in value.elts}, {str}, name)
+        used = [part for part in ast.walk(tree) if isinstance(part, ast.Name) and part.id == target.id]
+        read = [part for part in ast.walk(tree) if isinstance(part, (ast.Subscript, ast.Attribute)) and part.value in used]
+        self.assertEqual(len(used), 1 + len(read), name)
+        self.assertLessEqual({part.attr for part in read if isinstance(part, ast.Attribute)}, {"get"}, name)
+        self.assertEqual({type(part.ctx) for part in read}, {ast.Load}, name)
+
+    def test_what_is_caught_and_what_is_done_at_last(self):
+        own = {node.name for node in trees()["errors"].body if isinstance(node, ast.ClassDef)}
+        for name, tree in trees().items():
+            for node in [node for node in ast.walk(tree) if isinstance(node, ast.Try)]:
+                for handler in node.handlers:
+                    self.assertLessEqual({word.id for word in ast.walk(handler.type) if isinstance(word, ast.Name)}, own, name)
+                # Plain assignments, and questions whether something is None.
+                for part in [part for row in node.finalbody for part in ast.walk(row)]:
+                    self.assertNotIsInstance(part, (ast.Call, ast.Subscript, ast.Return, ast.Raise, ast.BinOp, ast.For, ast.While), name)
+                    if isinstance(part, ast.If):
+                        self.assertIsInstance(part.test, ast.Compare)
+                        self.assertIsInstance(part.test.ops[0], (ast.Is, ast.IsNot))
 
     def test_the_interface_is_defined_where_it_is_listed(self):
         known = trees()

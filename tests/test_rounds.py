@@ -1,6 +1,5 @@
 """Whole turns in a row, what no turns take, and the fewest of them."""
 
-import functools
 import itertools
 import unittest
 
@@ -9,69 +8,13 @@ from allitreaches.lots import Lot, lot_of_boxes
 from allitreaches.places import Scene
 from allitreaches.rounds import fewest, lacks, least, rounds, shows_fewest, stands_behind
 from allitreaches.taking import behind
-from tests import own, samples
-from tests.samples import BARE, NARROW, SIDE, UNDER, UNIT, WIDE
+from tests import samples
+from tests.own_turns import own_turns
+from tests.samples import BARE, BROAD, IDLE, NARROW, POCKET, STEPPED, UNIT, WIDE
 from tests.values import strange
 from tests.wrong import bent_rows, bent_scenes, bent_toolss, check_refusals
 
-POCKET = (((0, 4, 0, 1, 0, 3), (0, 4, 2, 3, 0, 3), (0, 1, 1, 2, 0, 3), (3, 4, 1, 2, 0, 3), (2, 3, 1, 2, 0, 1)),
-          ((0, 4, 0, 3, 0, 3),))
-BROAD = (((0, 2, 0, 1, 0, 1),), ())
-STEPPED = (((0, 1, 0, 1, 0, 1),), ((0, 2, 0, 1, 1, 3),))
-SHAFT = (((0, 1, 0, 1, 0, 3), (2, 3, 0, 1, 0, 3)), ((0, 3, 0, 1, 0, 3),))
-# Its holder lies above its cutter and below it: no stock of two layers goes between.
-IDLE = (UNIT, ((-4, 4, -4, 4, 1, 4), (-4, 4, -4, 4, -4, 0)))
-
-SETTINGS = [
-    (POCKET, (BROAD, STEPPED)), (POCKET, (STEPPED, BROAD)), (POCKET, (STEPPED, STEPPED)), (POCKET, (IDLE, STEPPED, BROAD)),
-    (POCKET, (BROAD,)), (samples.TABLE, (SIDE, NARROW)), (samples.TABLE, (samples.FLAT, UNDER)), (samples.HOLE, (WIDE, NARROW)),
-    (samples.APART, (WIDE, samples.LOW, BARE)), (samples.STEPS, (UNDER, SIDE, samples.LOW)), (samples.BLOCK, (IDLE,)),
-    (samples.OUTER, (samples.HIGH, SIDE)), (samples.CHEST, (BARE, NARROW)), (SHAFT, (WIDE, STEPPED)), (samples.BLOCK, (BARE, BARE)),
-]
-
-
-class OwnTurns:
-    """Own turns of some tools over a scene, each reckoned once."""
-
-    def __init__(self, part, stock, tools):
-        self.part, self.stock, self.tools = part, stock, tools
-        self.known = {}
-        self.first = frozenset(own.cells_in(stock))
-
-    def turn(self, stands, number):
-        if (stands, number) not in self.known:
-            self.known[stands, number] = frozenset(own.behind(self.part, self.stock, stands, self.tools[number]))
-        return self.known[stands, number]
-
-    def behind(self, row):
-        stands = self.first
-        for number in row:
-            stands = self.turn(stands, number)
-        return stands
-
-    def rounds(self):
-        stands, turns, since = self.first, [], 0
-        for number in itertools.cycle(range(len(self.tools))):
-            left = self.turn(stands, number)
-            since = since + 1 if left == stands else 0
-            if left != stands:
-                turns.append((number, len(stands) - len(left)))
-                stands = left
-            if since == len(self.tools):
-                return tuple(turns), stands
-
-    def fewest(self):
-        """All of the shortest rows that leave the least, by going through all rows."""
-        _, goal = self.rounds()
-        for many in itertools.count():
-            rows = [row for row in itertools.product(range(len(self.tools)), repeat=many) if self.behind(row) == goal]
-            if rows:
-                return rows
-
-
-@functools.lru_cache(maxsize=None)
-def own_turns(part, stock, tools):
-    return OwnTurns(part, stock, tools)
+SETTINGS = samples.TURNS
 
 
 def cells_of(lot):

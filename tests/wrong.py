@@ -130,3 +130,27 @@ def check_refusals(test, look, rows):
                 assert_refused(test, error, value, look, **dict(list(zip(names, row))[::-1]))
             test.assertEqual(repr(value), before)
     test.assertEqual(look(*right), look(**dict(list(zip(names, right))[::-1])))
+
+
+def bent_lines():
+    """Strings that are no lines of a program; some of them have line feeds."""
+    bent = ["", " ", "x", "tool", "tool ", "to", "to ", "remark", "REM", "Rem x", "Tool 0", "TO 0 0 0", "tools 0", "too 0", "t", "undo"]
+    bent += [f"tool {word}" for word in ("-1", "-0", "+1", "00", "01", "1 ", " 1", "1 2", "1/1", "1/2", "0.0", "a", "None", "1_0", "one")]
+    for word in ("+1", "01", "-01", "-0", "2/2", "1/1", "0/1", "0/2", "4/2", "1/3", "-2/3", "1/4", "1/-2", "01/2", "-0/2", "1/02", "1/0",
+                 "/2", "1/", "1/2/2", "a", "", "1.5", "1_0", "--1", "- 1", "1e3"):
+        bent += [f"to {word} 0 0", f"to 0 {word} 0", f"to 0 0 {word}"]
+    bent += ["to 0 0", "to 0", "to 0 0 0 0", "to  0 0 0", "to 0  0 0", "to 0 0  0", "to 0 0 0 ", " to 0 0 0", "to 0,0,0", "to0 0 0", "to 0 0 0 rem"]
+    bent += ["tool  0", " tool 0", "tool 0 rem", "tool0", " rem", "rem\n", "rem x\n", "tool 0\n", "\nrem", "to 0 0 0\n", "remx", "rems a"]
+    return bent + ["tool 0\ntool", "rem\nto 0 0 0 ", "rem\n\nrem"]
+
+
+def bent_moves():
+    """Values that are no MOVES."""
+    bent = strange() + [("tool",), ("tool", 0, 0), ["tool", 0], "tool 0", ("tool", -1), ("tool", True), ("tool", False), ("tool", None),
+                        ("tool", "0"), ("tool", (0, 1)), ("tool", [0]), ("to", 0), ("to", "0 0 0"), ("to",), ("to", 0, 0, 0), ("To", ZERO),
+                        ("to", ZERO, ZERO), ["to", ZERO], {"to": ZERO}, ("rem",), ("rem", None), ("rem", 0), ("rem", "a", "b"), ("rem", "\n"),
+                        ("rem", "a\nb"), ("rem", ["a"]), ("rem", ("a",)), ["rem", "a"], ("", "a"), (None, "a"), ("remark", "a"),
+                        ("tool", ZERO), ("to", "a"), ("rem", ZERO), (("tool", 0),), (Lot(()), 0), (0, "tool"), ("undo", ""), ("to", Lot(()))]
+    for at in range(3):
+        bent += [("to", replaced(ZERO, at, part)) for part in ((1, 3), (2, 2), (2, 4), (1, -2), (True, 1), (0, True), [1, 2], 0, (1, 4))]
+    return bent
