@@ -17,7 +17,7 @@ class Examples(unittest.TestCase):
     def test_each_section(self):
         names = sorted(name for name in os.listdir(FOLDER) if name.endswith(".txt"))
         self.assertEqual(names, [f"section_{number:02d}.txt" for number in range(4, 4 + len(names))])
-        self.assertEqual(len(names), 9)
+        self.assertEqual(len(names), 11)
         for name in names:
             self.check(os.path.join(FOLDER, name))
 

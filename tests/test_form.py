@@ -25,12 +25,19 @@ INTERFACE = {
     "machine": "halved Machine",
     "making": "program_of shows_program_of",
     "fits": "by_holders fits needed rest undercuts",
+    "drawings": "drawing_text Drawing exchanged layer mirrored",
+    "benches": "Bench",
+    "journals": "journal read_journal",
+    "desk": "Desk",
 }
 
 METHODS = {
     ("lots", "Lot"): "has is_in joined both less pieces closure is_closed is_open __len__ __eq__ __init__",
     ("places", "Scene"): "__init__ __eq__",
     ("machine", "Machine"): "__init__ __eq__ do run has lot volume copy",
+    ("drawings", "Drawing"): "__init__ __eq__",
+    ("benches", "Bench"): "__init__ __eq__ __len__ machine do undo redo tried keep copy deeds",
+    ("desk", "Desk"): "__init__ say",
 }
 
 DUNDERS = "__init__ __eq__ __len__".split()

@@ -1,5 +1,6 @@
 """Values that are almost, or not at all, what the document asks for."""
 
+from allitreaches.drawings import Drawing
 from allitreaches.errors import ReachError
 from allitreaches.lots import Lot, lot_of_boxes
 from allitreaches.places import Scene
@@ -154,3 +155,9 @@ def bent_moves():
     for at in range(3):
         bent += [("to", replaced(ZERO, at, part)) for part in ((1, 3), (2, 2), (2, 4), (1, -2), (True, 1), (0, True), [1, 2], 0, (1, 4))]
     return bent
+
+
+def bent_drawings():
+    """Values that are no Drawings."""
+    drawing = Drawing("stock 0..1 0..1 0..1\ntool\ncut 0..1 0..1 0..1")
+    return strange() + [drawing.text, [drawing], (drawing,), {0: drawing}, drawing.stock, Scene((), UNIT), ReachError(drawing), Lot(())]
