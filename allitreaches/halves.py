@@ -76,11 +76,11 @@ class Milling:
         """How many eighths of a cube these spots fill."""
         return many_of(bits & self.grid.all_cubes())
 
-    def cut_at(self, place):
-        """What lies within the cutter at a place."""
+    def cut(self, start, end):
+        """What lies within the cutter on the way from start to end, along one axis."""
         found = 0
-        for box in self.cutter:
-            found = found | self.grid.within(moved(box, place))
+        for box in _gone_over(self.cutter, start, end):
+            found = found | self.grid.within(box)
         return found
 
     def _part_met(self, boxes):

@@ -2,7 +2,6 @@
 
 from allitreaches.errors import BadProgram, Stopped
 from allitreaches.halves import Milling
-from allitreaches.kinds import check_tools
 from allitreaches.lines import steps_to, straightened
 from allitreaches.machine import halved, Machine
 from allitreaches.paths import path
@@ -23,7 +22,6 @@ def _places(scene, stands, tool):
 def program_of(part, stock, tools):
     """A program that leaves just what least tells, with as few TOOLS brought in as can be."""
     scene = Scene(part, stock)
-    check_tools(tools)
     moves = []
     stands = scene.stands
     for number in fewest(scene, tools):

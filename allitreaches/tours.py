@@ -30,26 +30,37 @@ class Tour:
         self.wanted = 0
         self.steps = [first_of(setup.outside)]
 
-    def _takes(self, step):
-        """What it takes at this place of all that is wanted."""
-        return self.wanted & self.milling.cut_at(self.grid.cell_of_bit(step))
+    def _takes(self, first, last):
+        """What it takes from the one place straight on to the other, of all that is wanted."""
+        return self.wanted & self.milling.cut(self.grid.cell_of_bit(first), self.grid.cell_of_bit(last))
 
     def _go(self, step):
         self.steps.append(step)
-        self.wanted = self.wanted & ~self._takes(step)
+        self.wanted = self.wanted & ~self._takes(step, step)
+
+    def _ahead(self, reach, axis, ahead):
+        """The places straight on, one behind the other, as far as the reach goes."""
+        row = []
+        step = self.grid.shifted(self.steps[-1], axis, ahead) & reach
+        while step:
+            row.append(step)
+            step = self.grid.shifted(step, axis, ahead) & reach
+        return row
 
     def _run(self, reach, axis, ahead):
         """How much a move straight on takes, and the places up to the last one that takes some of it."""
-        step = self.steps[-1]
-        row, useful, found = [], 0, 0
-        while step:
-            step = self.grid.shifted(step, axis, ahead) & reach
-            row.append(step)
-            took = self._takes(step) & ~found if step else 0
-            if took:
-                found = found | took
-                useful = len(row)
-        return (many_of(found), row[:useful])
+        row = self._ahead(reach, axis, ahead)
+        took = self._takes(row[0], row[-1]) if row else 0
+        if not took:
+            return (0, [])
+        low, high = 0, len(row) - 1
+        while low < high:
+            middle = (low + high) // 2
+            if self._takes(row[0], row[middle]) == took:
+                high = middle
+            else:
+                low = middle + 1
+        return (many_of(took), row[:low + 1])
 
     def _longest_run(self, reach):
         """The places of the straight move that takes most; none if none takes anything."""
@@ -68,7 +79,7 @@ class Tour:
             if not row:
                 way_on = self.grid.route(reach, self.steps[-1], cover)
                 cover = cover & ~way_on[-1]
-                row = way_on[1:] if self._takes(way_on[-1]) else []
+                row = way_on[1:] if self._takes(way_on[-1], way_on[-1]) else []
             for step in row:
                 self._go(step)
 

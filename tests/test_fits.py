@@ -115,6 +115,8 @@ class Undercuts(unittest.TestCase):
         self.assertEqual(undercuts(Scene(((0, 1, 0, 1, 0, 1),), ((0, 1, 0, 1, 0, 2),))), Lot(()))
         self.assertEqual(undercuts(Scene(((0, 1, 0, 1, 7, 8),), UNIT)), lot_of_boxes(UNIT))
         self.assertEqual(undercuts(Scene(((0, 1, 0, 1, 0, 1),), ((0, 1, 0, 1, 2, 3),))), Lot(()))
+        high = ((0, 1, 0, 1, 7, 8),)
+        self.assertEqual(undercuts(Scene(high, ((0, 2, 0, 1, 0, 8),))), lot_of_boxes(((0, 1, 0, 1, 0, 7),)).less(lot_of_boxes(high)))
         # A part beside the stock has only the side in common with it.
         self.assertEqual(undercuts(Scene(((1, 2, 0, 1, 5, 6),), UNIT)).cells, tuple((2, y, z) for y in range(3) for z in range(3)))
         # Between two boxes of the part, and touching one from below.

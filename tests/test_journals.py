@@ -125,6 +125,7 @@ class Refused(unittest.TestCase):
         self.check("drawing 2\n", 3)
         self.check("drawing 3\n\n", 4)
         self.check("drawing 4", 2)
+        self.check("drawing 1", 2)
 
     def test_a_drawing_that_is_refused_ahead_of_a_missing_line(self):
         for bent in (TEXT.replace("stock", "stick"), TEXT.replace("1..2", "0..2"), TEXT.replace("tool", ""), TEXT.replace("0..2 0..2 0..2", "0..9 0..2 0..2"),
